@@ -1,0 +1,292 @@
+package iheap
+
+import (
+	"math"
+	"slices"
+	"testing"
+
+	"secateur/key"
+)
+
+// P6.1 and, by holds, P6.2
+
+func TestExample(t *testing.T) {
+	k := key.Key{Bound: 3, Depth: 5, Seq: 7}
+	l := []key.Entry{{Key: k, ID: 2}, {Key: k, ID: 7}, {Key: k, ID: 5}}
+	for name, maker := range makers() {
+		h := maker(l)
+		if x, ok := h.Min(); x != l[0] || !ok {
+			t.Errorf("%s: Min is %v, %v", name, x, ok)
+		}
+		if x, ok := h.Max(); x != l[1] || !ok {
+			t.Errorf("%s: Max is %v, %v", name, x, ok)
+		}
+		if h.Len() != 3 {
+			t.Errorf("%s: Len is %d", name, h.Len())
+		}
+	}
+}
+
+// tellsNothing tests what an empty heap and a nil one have in common.
+func tellsNothing(t *testing.T, h *Heap) {
+	t.Helper()
+	if h.Len() != 0 || len(h.List()) != 0 {
+		t.Errorf("Len is %d, List %v", h.Len(), h.List())
+	}
+	for name, f := range map[string]func() (key.Entry, bool){
+		"Min": h.Min, "Max": h.Max, "PopMin": h.PopMin, "PopMax": h.PopMax,
+	} {
+		for range 2 {
+			if x, ok := f(); ok || x != (key.Entry{}) {
+				t.Errorf("%s is %v, %v", name, x, ok)
+			}
+		}
+	}
+	if h.Len() != 0 || len(h.List()) != 0 {
+		t.Errorf("after pops Len is %d, List %v", h.Len(), h.List())
+	}
+}
+
+func TestNil(t *testing.T) {
+	var h *Heap
+	tellsNothing(t, h)
+	h.Push(bounded(1))
+	tellsNothing(t, h)
+}
+
+func TestEmpty(t *testing.T) {
+	behind := boundedAll(3, 1, 2)
+	for name, h := range map[string]*Heap{
+		"new": New(), "of nil": Build(nil), "of none": Build([]key.Entry{}), "cut off": Build(behind[:0]),
+	} {
+		if h == nil {
+			t.Fatalf("%s: nil", name)
+		}
+		tellsNothing(t, h)
+		pushAll(h, boundedAll(4, 6, 5))
+		holds(t, h, boundedAll(4, 5, 6))
+	}
+}
+
+// TestSingle: the one entry is the first and the last, and goes from either end.
+func TestSingle(t *testing.T) {
+	for _, x := range append(edges(), key.Entry{}) {
+		for name, maker := range makers() {
+			for _, last := range []bool{false, true} {
+				h, m := maker([]key.Entry{x}), model{x}
+				holds(t, h, m)
+				popsBoth(t, h, &m, last)
+				tellsNothing(t, h)
+				h.Push(x)
+				if l := h.List(); !slices.Equal(l, []key.Entry{x}) {
+					t.Errorf("%s: pushed again: %v", name, l)
+				}
+			}
+		}
+	}
+}
+
+// TestLastPlaceWithoutItsSecond: an entry that stands alone in its pair comes
+// from the one end, from the other or from between, and goes as it came.
+func TestLastPlaceWithoutItsSecond(t *testing.T) {
+	for _, pairs := range []int{1, 2, 3, 4, 7, 8, 16} {
+		var sorted []key.Entry
+		for n := range 2 * pairs {
+			sorted = append(sorted, bounded(10*n))
+		}
+		for n := -5; n <= 20*pairs; n += 5 {
+			for _, maker := range makers() {
+				h, m := maker(sorted), model(slices.Clone(sorted))
+				h.Push(bounded(n))
+				m.push(bounded(n))
+				holds(t, h, m)
+				popsBoth(t, h, &m, n%2 == 0)
+				holds(t, h, m)
+			}
+		}
+	}
+}
+
+// TestAllSequences does whatever can be done in a few steps, with few entries
+// that are often the same.
+func TestAllSequences(t *testing.T) {
+	const steps, choices = 8, 5
+	sequences := 1
+	for range steps {
+		sequences *= choices
+	}
+	for code := range sequences {
+		h, m := New(), model{}
+		for rest := code; rest > 0; rest /= choices {
+			switch c := rest % choices; c {
+			case 0, 1:
+				popsBoth(t, h, &m, c == 1)
+			default:
+				h.Push(bounded(c))
+				m.push(bounded(c))
+			}
+		}
+		holds(t, h, m)
+	}
+}
+
+// permuted hands on every order of the entries, in one list that it writes again.
+func permuted(l []key.Entry, from int, f func([]key.Entry)) {
+	if from == len(l) {
+		f(l)
+		return
+	}
+	for i := from; i < len(l); i++ {
+		l[from], l[i] = l[i], l[from]
+		permuted(l, from+1, f)
+		l[from], l[i] = l[i], l[from]
+	}
+}
+
+// TestAllOrders: whatever the order that entries come in, the same ones among
+// them or not, they go in theirs, from either end.
+func TestAllOrders(t *testing.T) {
+	for _, want := range [][]key.Entry{boundedAll(1, 2, 3, 4, 5, 6, 7), boundedAll(1, 2, 2, 3, 3, 3, 4)} {
+		n := 0
+		permuted(slices.Clone(want), 0, func(l []key.Entry) {
+			n++
+			for _, maker := range makers() {
+				h, m := maker(l), model(slices.Clone(want))
+				holds(t, h, m)
+				for ends := n % 128; len(m) > 0; ends /= 2 {
+					popsBoth(t, h, &m, ends%2 == 1)
+					holds(t, h, m)
+				}
+			}
+		})
+	}
+}
+
+// orders are ways to lay a list of entries.
+func orders(sorted []key.Entry) map[string][]key.Entry {
+	d := dice(len(sorted))
+	reversed := slices.Clone(sorted)
+	slices.Reverse(reversed)
+	return map[string][]key.Entry{"rising": slices.Clone(sorted), "falling": reversed, "strewn": d.shuffled(sorted)}
+}
+
+// TestAllSizes: levels of pairs that are full, that begin and that lack one,
+// with a second in the last pair and without.
+func TestAllSizes(t *testing.T) {
+	var unlike, alike []key.Entry
+	for n := range 140 {
+		for _, sorted := range [][]key.Entry{unlike, alike} {
+			for _, l := range orders(sorted) {
+				for _, maker := range makers() {
+					holds(t, maker(l), sorted)
+					drains(t, maker(l), sorted, func(int) bool { return false })
+					drains(t, maker(l), sorted, func(int) bool { return true })
+					drains(t, maker(l), sorted, func(left int) bool { return left%3 == 0 })
+				}
+			}
+		}
+		unlike = append(unlike, bounded(n))
+		alike = append(alike, bounded(n/9))
+	}
+}
+
+// drains pops all that a heap holds, at the ends that are told by what is left.
+func drains(t *testing.T, h *Heap, sorted []key.Entry, last func(left int) bool) {
+	t.Helper()
+	m := model(slices.Clone(sorted))
+	for len(m) > 0 {
+		popsBoth(t, h, &m, last(len(m)))
+		endsAre(t, h, m)
+	}
+	if h.Len() != 0 {
+		t.Fatalf("%d are left of a heap that was drained", h.Len())
+	}
+}
+
+func TestEdgesOfNumbers(t *testing.T) {
+	d := dice(5)
+	for range 300 {
+		for _, maker := range makers() {
+			h, m := maker(d.shuffled(edges())), model(edges())
+			for len(m) > 0 {
+				holds(t, h, m)
+				popsBoth(t, h, &m, d.roll(2) == 1)
+			}
+		}
+	}
+}
+
+// TestLongRuns pushes and pops in any order, with many entries that are the
+// same and with few, while heaps grow and while they shrink.
+func TestLongRuns(t *testing.T) {
+	for _, kinds := range []int{1, 3, 40, math.MaxInt32} {
+		for seed := range 6 {
+			d := dice(seed)
+			h, m := New(), model{}
+			for step := range 1200 {
+				growing := step%400 < 250
+				if d.roll(8) < 3 == growing {
+					popsBoth(t, h, &m, d.roll(2) == 1)
+				} else {
+					x := key.Entry{Key: key.Key{Bound: int64(d.roll(kinds)), Depth: d.roll(3), Seq: int64(d.roll(2))}, ID: d.roll(4)}
+					h.Push(x)
+					m.push(x)
+				}
+				holds(t, h, m)
+			}
+		}
+	}
+}
+
+// TestMany: a great heap keeps its order, and its calls don't go through all of
+// it (or this test would take very long).
+func TestMany(t *testing.T) {
+	const n = 1 << 18
+	var l []key.Entry
+	d := dice(1)
+	for range n {
+		l = append(l, bounded(d.roll(n)))
+	}
+	want := key.Sort(l)
+	for name, maker := range makers() {
+		h := maker(l)
+		for i := range n / 2 {
+			first, _ := h.PopMin()
+			last, _ := h.PopMax()
+			if first != want[i] || last != want[n-1-i] {
+				t.Fatalf("%s: %d: %v, %v; want %v, %v", name, i, first, last, want[i], want[n-1-i])
+			}
+		}
+		tellsNothing(t, h)
+	}
+}
+
+// TestFault: the other tests see a list that doesn't stand right.
+func TestFault(t *testing.T) {
+	for _, x := range []struct {
+		numbers []int
+		right   bool
+	}{
+		{nil, true},
+		{[]int{5}, true},
+		{[]int{5, 5}, true},
+		{[]int{5, 4}, false},
+		{[]int{1, 9, 1}, true},
+		{[]int{1, 9, 9}, true},
+		{[]int{1, 9, 0}, false},
+		{[]int{1, 9, 10}, false},
+		{[]int{1, 9, 3, 7, 2, 8}, true},
+		{[]int{1, 9, 7, 3}, false},
+		{[]int{1, 9, 3, 10}, false},
+		{[]int{1, 9, 0, 7}, false},
+		{[]int{1, 9, 3, 7, 2, 8, 4, 6, 3, 7, 2, 8, 2}, true},
+		{[]int{1, 9, 3, 7, 2, 8, 4, 6, 2, 7}, false},
+		{[]int{1, 9, 3, 7, 2, 8, 4, 6, 3, 8}, false},
+		{[]int{1, 9, 3, 7, 2, 8, 4, 6, 3, 7, 1}, false},
+		{[]int{1, 9, 3, 7, 2, 8, 4, 6, 3, 7, 9}, false},
+	} {
+		if f := fault(boundedAll(x.numbers...)); (f == "") != x.right {
+			t.Errorf("%v: %q", x.numbers, f)
+		}
+	}
+}
