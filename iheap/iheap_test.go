@@ -6,6 +6,7 @@ import (
 	"testing"
 
 	"secateur/key"
+	"secateur/sample"
 )
 
 // P6.1 and, by holds, P6.2
@@ -50,12 +51,12 @@ func tellsNothing(t *testing.T, h *Heap) {
 func TestNil(t *testing.T) {
 	var h *Heap
 	tellsNothing(t, h)
-	h.Push(bounded(1))
+	h.Push(sample.Bounded(1))
 	tellsNothing(t, h)
 }
 
 func TestEmpty(t *testing.T) {
-	behind := boundedAll(3, 1, 2)
+	behind := sample.BoundedAll(3, 1, 2)
 	for name, h := range map[string]*Heap{
 		"new": New(), "of nil": Build(nil), "of none": Build([]key.Entry{}), "cut off": Build(behind[:0]),
 	} {
@@ -63,17 +64,17 @@ func TestEmpty(t *testing.T) {
 			t.Fatalf("%s: nil", name)
 		}
 		tellsNothing(t, h)
-		pushAll(h, boundedAll(4, 6, 5))
-		holds(t, h, boundedAll(4, 5, 6))
+		pushAll(h, sample.BoundedAll(4, 6, 5))
+		holds(t, h, sample.BoundedAll(4, 5, 6))
 	}
 }
 
 // TestSingle: the one entry is the first and the last, and goes from either end.
 func TestSingle(t *testing.T) {
-	for _, x := range append(edges(), key.Entry{}) {
+	for _, x := range append(sample.Edges(), key.Entry{}) {
 		for name, maker := range makers() {
 			for _, last := range []bool{false, true} {
-				h, m := maker([]key.Entry{x}), model{x}
+				h, m := maker([]key.Entry{x}), sample.Model{x}
 				holds(t, h, m)
 				popsBoth(t, h, &m, last)
 				tellsNothing(t, h)
@@ -92,13 +93,13 @@ func TestLastPlaceWithoutItsSecond(t *testing.T) {
 	for _, pairs := range []int{1, 2, 3, 4, 7, 8, 16} {
 		var sorted []key.Entry
 		for n := range 2 * pairs {
-			sorted = append(sorted, bounded(10*n))
+			sorted = append(sorted, sample.Bounded(10*n))
 		}
 		for n := -5; n <= 20*pairs; n += 5 {
 			for _, maker := range makers() {
-				h, m := maker(sorted), model(slices.Clone(sorted))
-				h.Push(bounded(n))
-				m.push(bounded(n))
+				h, m := maker(sorted), sample.Model(slices.Clone(sorted))
+				h.Push(sample.Bounded(n))
+				m.Push(sample.Bounded(n))
 				holds(t, h, m)
 				popsBoth(t, h, &m, n%2 == 0)
 				holds(t, h, m)
@@ -116,14 +117,14 @@ func TestAllSequences(t *testing.T) {
 		sequences *= choices
 	}
 	for code := range sequences {
-		h, m := New(), model{}
+		h, m := New(), sample.Model{}
 		for rest := code; rest > 0; rest /= choices {
 			switch c := rest % choices; c {
 			case 0, 1:
 				popsBoth(t, h, &m, c == 1)
 			default:
-				h.Push(bounded(c))
-				m.push(bounded(c))
+				h.Push(sample.Bounded(c))
+				m.Push(sample.Bounded(c))
 			}
 		}
 		holds(t, h, m)
@@ -146,12 +147,12 @@ func permuted(l []key.Entry, from int, f func([]key.Entry)) {
 // TestAllOrders: whatever the order that entries come in, the same ones among
 // them or not, they go in theirs, from either end.
 func TestAllOrders(t *testing.T) {
-	for _, want := range [][]key.Entry{boundedAll(1, 2, 3, 4, 5, 6, 7), boundedAll(1, 2, 2, 3, 3, 3, 4)} {
+	for _, want := range [][]key.Entry{sample.BoundedAll(1, 2, 3, 4, 5, 6, 7), sample.BoundedAll(1, 2, 2, 3, 3, 3, 4)} {
 		n := 0
 		permuted(slices.Clone(want), 0, func(l []key.Entry) {
 			n++
 			for _, maker := range makers() {
-				h, m := maker(l), model(slices.Clone(want))
+				h, m := maker(l), sample.Model(slices.Clone(want))
 				holds(t, h, m)
 				for ends := n % 128; len(m) > 0; ends /= 2 {
 					popsBoth(t, h, &m, ends%2 == 1)
@@ -164,10 +165,10 @@ func TestAllOrders(t *testing.T) {
 
 // orders are ways to lay a list of entries.
 func orders(sorted []key.Entry) map[string][]key.Entry {
-	d := dice(len(sorted))
+	d := sample.Dice(len(sorted))
 	reversed := slices.Clone(sorted)
 	slices.Reverse(reversed)
-	return map[string][]key.Entry{"rising": slices.Clone(sorted), "falling": reversed, "strewn": d.shuffled(sorted)}
+	return map[string][]key.Entry{"rising": slices.Clone(sorted), "falling": reversed, "strewn": d.Shuffled(sorted)}
 }
 
 // TestAllSizes: levels of pairs that are full, that begin and that lack one,
@@ -185,15 +186,15 @@ func TestAllSizes(t *testing.T) {
 				}
 			}
 		}
-		unlike = append(unlike, bounded(n))
-		alike = append(alike, bounded(n/9))
+		unlike = append(unlike, sample.Bounded(n))
+		alike = append(alike, sample.Bounded(n/9))
 	}
 }
 
 // drains pops all that a heap holds, at the ends that are told by what is left.
 func drains(t *testing.T, h *Heap, sorted []key.Entry, last func(left int) bool) {
 	t.Helper()
-	m := model(slices.Clone(sorted))
+	m := sample.Model(slices.Clone(sorted))
 	for len(m) > 0 {
 		popsBoth(t, h, &m, last(len(m)))
 		endsAre(t, h, m)
@@ -204,13 +205,13 @@ func drains(t *testing.T, h *Heap, sorted []key.Entry, last func(left int) bool)
 }
 
 func TestEdgesOfNumbers(t *testing.T) {
-	d := dice(5)
+	d := sample.Dice(5)
 	for range 300 {
 		for _, maker := range makers() {
-			h, m := maker(d.shuffled(edges())), model(edges())
+			h, m := maker(d.Shuffled(sample.Edges())), sample.Model(sample.Edges())
 			for len(m) > 0 {
 				holds(t, h, m)
-				popsBoth(t, h, &m, d.roll(2) == 1)
+				popsBoth(t, h, &m, d.Roll(2) == 1)
 			}
 		}
 	}
@@ -221,16 +222,16 @@ func TestEdgesOfNumbers(t *testing.T) {
 func TestLongRuns(t *testing.T) {
 	for _, kinds := range []int{1, 3, 40, math.MaxInt32} {
 		for seed := range 6 {
-			d := dice(seed)
-			h, m := New(), model{}
+			d := sample.Dice(seed)
+			h, m := New(), sample.Model{}
 			for step := range 1200 {
 				growing := step%400 < 250
-				if d.roll(8) < 3 == growing {
-					popsBoth(t, h, &m, d.roll(2) == 1)
+				if d.Roll(8) < 3 == growing {
+					popsBoth(t, h, &m, d.Roll(2) == 1)
 				} else {
-					x := key.Entry{Key: key.Key{Bound: int64(d.roll(kinds)), Depth: d.roll(3), Seq: int64(d.roll(2))}, ID: d.roll(4)}
+					x := key.Entry{Key: key.Key{Bound: int64(d.Roll(kinds)), Depth: d.Roll(3), Seq: int64(d.Roll(2))}, ID: d.Roll(4)}
 					h.Push(x)
-					m.push(x)
+					m.Push(x)
 				}
 				holds(t, h, m)
 			}
@@ -243,9 +244,9 @@ func TestLongRuns(t *testing.T) {
 func TestMany(t *testing.T) {
 	const n = 1 << 18
 	var l []key.Entry
-	d := dice(1)
+	d := sample.Dice(1)
 	for range n {
-		l = append(l, bounded(d.roll(n)))
+		l = append(l, sample.Bounded(d.Roll(n)))
 	}
 	want := key.Sort(l)
 	for name, maker := range makers() {
@@ -285,7 +286,7 @@ func TestFault(t *testing.T) {
 		{[]int{1, 9, 3, 7, 2, 8, 4, 6, 3, 7, 1}, false},
 		{[]int{1, 9, 3, 7, 2, 8, 4, 6, 3, 7, 9}, false},
 	} {
-		if f := fault(boundedAll(x.numbers...)); (f == "") != x.right {
+		if f := fault(sample.BoundedAll(x.numbers...)); (f == "") != x.right {
 			t.Errorf("%v: %q", x.numbers, f)
 		}
 	}
