@@ -1,6 +1,6 @@
-// Package sample has what the tests of the layers that keep entries have in
-// common: entries, a plain list that heaps are held against, and dice. The
-// program itself calls nothing of it.
+// Package sample has what the tests of several layers have in common: of those
+// that keep entries, entries and a plain list that heaps are held against; and
+// dice. The program itself calls nothing of it.
 package sample
 
 import (
