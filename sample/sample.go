@@ -1,6 +1,7 @@
 // Package sample has what the tests of several layers have in common: of those
-// that keep entries, entries and a plain list that heaps are held against; and
-// dice. The program itself calls nothing of it.
+// that keep entries, entries and a plain list that heaps are held against; of
+// those that are handed instances, such as may be and such as mayn't; and dice.
+// The program itself calls nothing of it.
 package sample
 
 import (

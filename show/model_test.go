@@ -80,11 +80,11 @@ func TestModelOfSmallKnapsacks(t *testing.T) {
 		}
 	}
 	for _, room := range numbers {
-		holds(t, items(room))
+		holds(t, sample.Knapsack(room))
 		for _, a := range l {
-			holds(t, items(room, a))
+			holds(t, sample.Knapsack(room, a))
 			for _, b := range l {
-				holds(t, items(room, a, b))
+				holds(t, sample.Knapsack(room, a, b))
 			}
 		}
 	}
@@ -95,23 +95,23 @@ func TestModelOfSmallKnapsacks(t *testing.T) {
 func TestModelOfSmallSquares(t *testing.T) {
 	numbers := []int64{0, 1, -1, 20, -api.MaxMag, api.MaxMag}
 	for _, a := range numbers {
-		holds(t, rows(inst.Assignment, []int64{a}))
+		holds(t, sample.Square(inst.Assignment, []int64{a}))
 		for _, b := range numbers {
-			holds(t, rows(inst.Tsp, []int64{0, a}, []int64{b, 0}))
+			holds(t, sample.Square(inst.Tsp, []int64{0, a}, []int64{b, 0}))
 			for _, c := range numbers {
 				for _, d := range numbers {
-					holds(t, rows(inst.Assignment, []int64{a, b}, []int64{c, d}))
+					holds(t, sample.Square(inst.Assignment, []int64{a, b}, []int64{c, d}))
 				}
 			}
 		}
 	}
-	holds(t, rows(inst.Tsp, []int64{0}))
+	holds(t, sample.Square(inst.Tsp, []int64{0}))
 }
 
 // TestModelOfSmallCovers: all of up to three elements and two sets.
 func TestModelOfSmallCovers(t *testing.T) {
 	for size := range 4 {
-		holds(t, sets(size))
+		holds(t, sample.Cover(size))
 		var l []inst.Set
 		for some := range 1 << size {
 			var elems []int
@@ -123,53 +123,12 @@ func TestModelOfSmallCovers(t *testing.T) {
 			l = append(l, inst.Set{Elems: elems}, inst.Set{Cost: 12, Elems: elems}, inst.Set{Cost: api.MaxMag, Elems: elems})
 		}
 		for _, a := range l {
-			holds(t, sets(size, a))
+			holds(t, sample.Cover(size, a))
 			for _, b := range l {
-				holds(t, sets(size, a, b))
+				holds(t, sample.Cover(size, a, b))
 			}
 		}
 	}
-}
-
-// amount is a number from 0 to MaxMag, of any count of digits.
-func amount(d *sample.Dice) int64 {
-	if d.Roll(8) == 0 {
-		return []int64{0, 1, api.MaxMag - 1, api.MaxMag}[d.Roll(4)]
-	}
-	return int64(d.Roll(1 << (1 + d.Roll(31))))
-}
-
-// strewn is an instance of a kind, of at most so many items, rows, sets.
-func strewn(d *sample.Dice, k inst.Kind, most int) inst.Inst {
-	i := inst.Inst{Kind: k}
-	switch k {
-	case inst.Knapsack:
-		i.Cap = amount(d)
-		for range d.Roll(most + 1) {
-			i.Items = append(i.Items, inst.Item{Value: amount(d), Weight: amount(d)})
-		}
-	case inst.Assignment, inst.Tsp:
-		n := 1 + d.Roll(min(most, api.MaxSide))
-		for r := range n {
-			row := make([]int64, n)
-			for at := range row {
-				if k == inst.Assignment || at != r {
-					row[at] = amount(d) * int64(1-2*d.Roll(2))
-				}
-			}
-			i.Cost = append(i.Cost, row)
-		}
-	case inst.Cover:
-		i.Size = d.Roll(api.MaxN + 1)
-		for range d.Roll(most + 1) {
-			x := inst.Set{Cost: amount(d)}
-			for e := d.Roll(100); e < i.Size; e += 1 + d.Roll(1<<d.Roll(8)) {
-				x.Elems = append(x.Elems, e)
-			}
-			i.Sets = append(i.Sets, x)
-		}
-	}
-	return i
 }
 
 // TestModelOfStrewn: instances of each kind, small and great; of the greatest
@@ -185,7 +144,7 @@ func TestModelOfStrewn(t *testing.T) {
 		case n%10 < 4:
 			most = 100
 		}
-		i := strewn(&d, inst.Kind(n%int(inst.Kinds)), most)
+		i := sample.Strewn(&d, inst.Kind(n%int(inst.Kinds)), most)
 		holds(t, i)
 		switch size := len(model(i)); {
 		case size > api.MaxText:

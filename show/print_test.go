@@ -9,6 +9,7 @@ import (
 
 	"secateur/api"
 	"secateur/inst"
+	"secateur/sample"
 )
 
 // P11.1: Print
@@ -37,48 +38,36 @@ func brief(i inst.Inst) string {
 	return fmt.Sprintf("%.200s", fmt.Sprintf("%+v", i))
 }
 
-func items(room int64, l ...inst.Item) inst.Inst {
-	return inst.Inst{Cap: room, Items: l}
-}
-
-func rows(k inst.Kind, l ...[]int64) inst.Inst {
-	return inst.Inst{Kind: k, Cost: l}
-}
-
-func sets(size int, l ...inst.Set) inst.Inst {
-	return inst.Inst{Kind: inst.Cover, Size: size, Sets: l}
-}
-
 func TestPrintKnapsacks(t *testing.T) {
-	prints(t, items(0), "knapsack", "capacity 0")
-	prints(t, items(5), "knapsack", "capacity 5")
-	prints(t, items(0, inst.Item{}), "knapsack", "capacity 0", "item 0 0")
-	prints(t, items(5, inst.Item{Value: 6, Weight: 3}), "knapsack", "capacity 5", "item 6 3")
-	prints(t, items(10, inst.Item{Value: 6, Weight: 3}, inst.Item{Value: 5, Weight: 4}, inst.Item{Value: 6, Weight: 3}, inst.Item{Weight: 7}, inst.Item{Value: 12}),
+	prints(t, sample.Knapsack(0), "knapsack", "capacity 0")
+	prints(t, sample.Knapsack(5), "knapsack", "capacity 5")
+	prints(t, sample.Knapsack(0, inst.Item{}), "knapsack", "capacity 0", "item 0 0")
+	prints(t, sample.Knapsack(5, inst.Item{Value: 6, Weight: 3}), "knapsack", "capacity 5", "item 6 3")
+	prints(t, sample.Knapsack(10, inst.Item{Value: 6, Weight: 3}, inst.Item{Value: 5, Weight: 4}, inst.Item{Value: 6, Weight: 3}, inst.Item{Weight: 7}, inst.Item{Value: 12}),
 		"knapsack", "capacity 10", "item 6 3", "item 5 4", "item 6 3", "item 0 7", "item 12 0")
 }
 
 func TestPrintSquares(t *testing.T) {
 	for k, word := range map[inst.Kind]string{inst.Assignment: "assignment", inst.Tsp: "tsp"} {
-		prints(t, rows(k, []int64{0}), word+" 1", "row 0")
-		prints(t, rows(k, []int64{0, 1}, []int64{-2, 0}), word+" 2", "row 0 1", "row -2 0")
-		prints(t, rows(k, []int64{0, 1, -2}, []int64{30, 0, 4}, []int64{5, -60, 0}), word+" 3", "row 0 1 -2", "row 30 0 4", "row 5 -60 0")
+		prints(t, sample.Square(k, []int64{0}), word+" 1", "row 0")
+		prints(t, sample.Square(k, []int64{0, 1}, []int64{-2, 0}), word+" 2", "row 0 1", "row -2 0")
+		prints(t, sample.Square(k, []int64{0, 1, -2}, []int64{30, 0, 4}, []int64{5, -60, 0}), word+" 3", "row 0 1 -2", "row 30 0 4", "row 5 -60 0")
 	}
-	prints(t, rows(inst.Assignment, []int64{7}), "assignment 1", "row 7")
-	prints(t, rows(inst.Assignment, []int64{-7}), "assignment 1", "row -7")
-	prints(t, rows(inst.Assignment, []int64{4, 1}, []int64{2, -3}), "assignment 2", "row 4 1", "row 2 -3")
+	prints(t, sample.Square(inst.Assignment, []int64{7}), "assignment 1", "row 7")
+	prints(t, sample.Square(inst.Assignment, []int64{-7}), "assignment 1", "row -7")
+	prints(t, sample.Square(inst.Assignment, []int64{4, 1}, []int64{2, -3}), "assignment 2", "row 4 1", "row 2 -3")
 }
 
 // TestPrintCovers: the Colon stands directly behind a set's Cost, and behind
 // it a blank, if an element follows.
 func TestPrintCovers(t *testing.T) {
-	prints(t, sets(0), "cover 0")
-	prints(t, sets(3), "cover 3")
-	prints(t, sets(0, inst.Set{}), "cover 0", "set 0:")
-	prints(t, sets(0, inst.Set{Cost: 5}, inst.Set{Cost: 5, Elems: []int{}}), "cover 0", "set 5:", "set 5:")
-	prints(t, sets(1, inst.Set{Cost: 5, Elems: []int{0}}), "cover 1", "set 5: 0")
-	prints(t, sets(3, inst.Set{Cost: 5, Elems: []int{0, 2}}), "cover 3", "set 5: 0 2")
-	prints(t, sets(12, inst.Set{Cost: 15, Elems: []int{0, 1, 2, 10, 11}}, inst.Set{Elems: []int{1, 2}}, inst.Set{Cost: 4}, inst.Set{Cost: 15, Elems: []int{11}}),
+	prints(t, sample.Cover(0), "cover 0")
+	prints(t, sample.Cover(3), "cover 3")
+	prints(t, sample.Cover(0, inst.Set{}), "cover 0", "set 0:")
+	prints(t, sample.Cover(0, inst.Set{Cost: 5}, inst.Set{Cost: 5, Elems: []int{}}), "cover 0", "set 5:", "set 5:")
+	prints(t, sample.Cover(1, inst.Set{Cost: 5, Elems: []int{0}}), "cover 1", "set 5: 0")
+	prints(t, sample.Cover(3, inst.Set{Cost: 5, Elems: []int{0, 2}}), "cover 3", "set 5: 0 2")
+	prints(t, sample.Cover(12, inst.Set{Cost: 15, Elems: []int{0, 1, 2, 10, 11}}, inst.Set{Elems: []int{1, 2}}, inst.Set{Cost: 4}, inst.Set{Cost: 15, Elems: []int{11}}),
 		"cover 12", "set 15: 0 1 2 10 11", "set 0: 1 2", "set 4:", "set 15: 11")
 }
 
@@ -96,27 +85,27 @@ func amounts() map[int64]string {
 func TestPrintNumbers(t *testing.T) {
 	for n, s := range amounts() {
 		one, two := inst.Item{Value: 6, Weight: 3}, inst.Item{Value: 5, Weight: 4}
-		prints(t, items(n, one), "knapsack", "capacity "+s, "item 6 3")
-		prints(t, items(9, inst.Item{Value: n, Weight: 3}, two), "knapsack", "capacity 9", "item "+s+" 3", "item 5 4")
-		prints(t, items(9, inst.Item{Value: 6, Weight: n}, two), "knapsack", "capacity 9", "item 6 "+s, "item 5 4")
-		prints(t, items(9, one, inst.Item{Value: n, Weight: 4}), "knapsack", "capacity 9", "item 6 3", "item "+s+" 4")
-		prints(t, items(9, one, inst.Item{Value: 5, Weight: n}), "knapsack", "capacity 9", "item 6 3", "item 5 "+s)
-		prints(t, items(n, inst.Item{Value: n, Weight: n}), "knapsack", "capacity "+s, "item "+s+" "+s)
-		prints(t, sets(3, inst.Set{Cost: n}, inst.Set{Cost: 8, Elems: []int{1}}), "cover 3", "set "+s+":", "set 8: 1")
-		prints(t, sets(3, inst.Set{Cost: 8, Elems: []int{1}}, inst.Set{Cost: n, Elems: []int{0, 2}}), "cover 3", "set 8: 1", "set "+s+": 0 2")
+		prints(t, sample.Knapsack(n, one), "knapsack", "capacity "+s, "item 6 3")
+		prints(t, sample.Knapsack(9, inst.Item{Value: n, Weight: 3}, two), "knapsack", "capacity 9", "item "+s+" 3", "item 5 4")
+		prints(t, sample.Knapsack(9, inst.Item{Value: 6, Weight: n}, two), "knapsack", "capacity 9", "item 6 "+s, "item 5 4")
+		prints(t, sample.Knapsack(9, one, inst.Item{Value: n, Weight: 4}), "knapsack", "capacity 9", "item 6 3", "item "+s+" 4")
+		prints(t, sample.Knapsack(9, one, inst.Item{Value: 5, Weight: n}), "knapsack", "capacity 9", "item 6 3", "item 5 "+s)
+		prints(t, sample.Knapsack(n, inst.Item{Value: n, Weight: n}), "knapsack", "capacity "+s, "item "+s+" "+s)
+		prints(t, sample.Cover(3, inst.Set{Cost: n}, inst.Set{Cost: 8, Elems: []int{1}}), "cover 3", "set "+s+":", "set 8: 1")
+		prints(t, sample.Cover(3, inst.Set{Cost: 8, Elems: []int{1}}, inst.Set{Cost: n, Elems: []int{0, 2}}), "cover 3", "set 8: 1", "set "+s+": 0 2")
 		printsInRows(t, n, s)
 		if n > 0 {
 			printsInRows(t, -n, "-"+s)
 		}
 		if n <= api.MaxN {
-			prints(t, sets(int(n)), "cover "+s)
+			prints(t, sample.Cover(int(n)), "cover "+s)
 		}
 		if n < api.MaxN {
-			prints(t, sets(int(n)+1, inst.Set{Cost: 8, Elems: []int{int(n)}}), fmt.Sprint("cover ", n+1), "set 8: "+s)
-			prints(t, sets(api.MaxN, inst.Set{Cost: 8, Elems: []int{int(n)}}), "cover 4096", "set 8: "+s)
+			prints(t, sample.Cover(int(n)+1, inst.Set{Cost: 8, Elems: []int{int(n)}}), fmt.Sprint("cover ", n+1), "set 8: "+s)
+			prints(t, sample.Cover(api.MaxN, inst.Set{Cost: 8, Elems: []int{int(n)}}), "cover 4096", "set 8: "+s)
 		}
 	}
-	prints(t, sets(api.MaxN, inst.Set{Cost: 8, Elems: []int{0, 9, 10, 99, 100, 999, 1000, 4094, 4095}}), "cover 4096", "set 8: 0 9 10 99 100 999 1000 4094 4095")
+	prints(t, sample.Cover(api.MaxN, inst.Set{Cost: 8, Elems: []int{0, 9, 10, 99, 100, 999, 1000, 4094, 4095}}), "cover 4096", "set 8: 0 9 10 99 100 999 1000 4094 4095")
 }
 
 // printsInRows tests a number at each place of rows.
@@ -125,25 +114,25 @@ func printsInRows(t *testing.T, n int64, s string) {
 	for at := range 4 {
 		l, signs := []int64{3, -4, 5, 6}, []string{"3", "-4", "5", "6"}
 		l[at], signs[at] = n, s
-		prints(t, rows(inst.Assignment, l[:2], l[2:]), "assignment 2", "row "+signs[0]+" "+signs[1], "row "+signs[2]+" "+signs[3])
+		prints(t, sample.Square(inst.Assignment, l[:2], l[2:]), "assignment 2", "row "+signs[0]+" "+signs[1], "row "+signs[2]+" "+signs[3])
 		if at == 1 || at == 2 {
 			l[0], l[3] = 0, 0
-			prints(t, rows(inst.Tsp, l[:2], l[2:]), "tsp 2", "row 0 "+signs[1], "row "+signs[2]+" 0")
+			prints(t, sample.Square(inst.Tsp, l[:2], l[2:]), "tsp 2", "row 0 "+signs[1], "row "+signs[2]+" 0")
 		}
 	}
-	prints(t, rows(inst.Assignment, []int64{n}), "assignment 1", "row "+s)
+	prints(t, sample.Square(inst.Assignment, []int64{n}), "assignment 1", "row "+s)
 }
 
 // TestPrintAsManyAsMayBe: all items and rows that may be, with numbers of the
 // most digits, and all sets.
 func TestPrintAsManyAsMayBe(t *testing.T) {
-	i, lines := items(api.MaxMag), []string{"knapsack", "capacity 2147483648"}
+	i, lines := sample.Knapsack(api.MaxMag), []string{"knapsack", "capacity 2147483648"}
 	for range api.MaxN {
 		i.Items, lines = append(i.Items, inst.Item{Value: api.MaxMag, Weight: api.MaxMag}), append(lines, "item 2147483648 2147483648")
 	}
 	prints(t, i, lines...)
 	for k, word := range map[inst.Kind]string{inst.Assignment: "assignment 64", inst.Tsp: "tsp 64"} {
-		i, lines := rows(k), []string{word}
+		i, lines := sample.Square(k), []string{word}
 		for r := range api.MaxSide {
 			row, signs := make([]int64, api.MaxSide), make([]string, api.MaxSide)
 			for at := range row {
@@ -156,7 +145,7 @@ func TestPrintAsManyAsMayBe(t *testing.T) {
 		}
 		prints(t, i, lines...)
 	}
-	i, lines = sets(api.MaxN), []string{"cover 4096"}
+	i, lines = sample.Cover(api.MaxN), []string{"cover 4096"}
 	for n := range api.MaxN {
 		i.Sets, lines = append(i.Sets, inst.Set{Cost: api.MaxMag, Elems: []int{n}}), append(lines, fmt.Sprint("set 2147483648: ", n))
 	}
@@ -165,54 +154,8 @@ func TestPrintAsManyAsMayBe(t *testing.T) {
 
 // TestPrintWhatMayNotBe: each error of Check, of each kind, is told, and no text.
 func TestPrintWhatMayNotBe(t *testing.T) {
-	one, a, b := inst.Item{Value: 6, Weight: 3}, []int64{0, 1}, []int64{2, 0}
-	wrong := map[inst.Kind]map[api.Errno][]inst.Inst{
-		inst.Knapsack: {
-			api.ErrForm: {{Items: []inst.Item{one}, Cost: [][]int64{{0}}}, {Cap: 5, Size: 1}, {Cap: 5, Sets: []inst.Set{{}}}},
-			api.ErrLimit: {
-				{Items: make([]inst.Item, api.MaxN+1)}, items(-1), items(api.MaxMag + 1), items(math.MaxInt64), items(math.MinInt64), items(5, one, inst.Item{Value: -1}),
-				items(5, inst.Item{Weight: -1}, one), items(5, inst.Item{Value: api.MaxMag + 1}), items(5, one, inst.Item{Weight: api.MaxMag + 1}),
-			},
-		},
-		inst.Cover: {
-			api.ErrForm: {
-				{Size: 3, Cap: 1}, {Size: 3, Items: []inst.Item{one}}, {Size: 3, Cost: [][]int64{{0}}}, sets(3, inst.Set{Elems: []int{3}}), sets(3, inst.Set{Elems: []int{-1}}),
-				sets(3, inst.Set{Elems: []int{0, 2}}, inst.Set{Elems: []int{1, 1}}), sets(3, inst.Set{Elems: []int{2, 0}}), sets(0, inst.Set{Elems: []int{0}}),
-			},
-			api.ErrLimit: {
-				sets(-1), sets(api.MaxN + 1), sets(math.MinInt), {Size: 3, Sets: make([]inst.Set, api.MaxN+1)}, sets(3, inst.Set{Cost: -1}),
-				sets(3, inst.Set{Elems: []int{0}}, inst.Set{Cost: api.MaxMag + 1, Elems: []int{0}}),
-			},
-		},
-	}
-	for _, k := range []inst.Kind{inst.Assignment, inst.Tsp} {
-		wrong[k] = map[api.Errno][]inst.Inst{
-			api.ErrForm: {
-				{Cap: 1, Cost: [][]int64{{0}}}, {Items: []inst.Item{one}, Cost: [][]int64{{0}}}, {Size: 1, Cost: [][]int64{{0}}}, {Sets: []inst.Set{{}}, Cost: [][]int64{{0}}},
-				rows(k, nil), rows(k, a), rows(k, a, b, a), rows(k, a, b[:1]), rows(k, a[:1], b), rows(k, a, []int64{0, 0, 0}),
-			},
-			api.ErrLimit: {
-				rows(k), {Cost: make([][]int64, api.MaxSide+1)}, rows(k, []int64{0, api.MaxMag + 1}, b), rows(k, a, []int64{-api.MaxMag - 1, 0}), rows(k, []int64{math.MaxInt64}),
-			},
-		}
-	}
-	wrong[inst.Tsp][api.ErrForm] = append(wrong[inst.Tsp][api.ErrForm], rows(inst.Tsp, []int64{1}), rows(inst.Tsp, a, []int64{0, -1}), rows(inst.Tsp, []int64{api.MaxMag, 0}, b))
-	for k, each := range wrong {
-		for want, l := range each {
-			for _, i := range l {
-				i.Kind = k
-				refuses(t, i, want)
-				for _, i.Kind = range []inst.Kind{-1, inst.Kinds, inst.Kinds + 1, math.MinInt, math.MaxInt} {
-					refuses(t, i, api.ErrKind)
-				}
-			}
-		}
-	}
-	for _, k := range []inst.Kind{-1, inst.Kinds, math.MinInt, math.MaxInt} {
-		refuses(t, inst.Inst{Kind: k}, api.ErrKind)
-		refuses(t, inst.Inst{Kind: k, Cap: 5, Items: []inst.Item{one}}, api.ErrKind)
-		refuses(t, inst.Inst{Kind: k, Cost: [][]int64{a, b}}, api.ErrKind)
-		refuses(t, inst.Inst{Kind: k, Size: 3, Sets: []inst.Set{{Cost: 5, Elems: []int{0, 2}}}}, api.ErrKind)
+	for _, x := range sample.Wrongs() {
+		refuses(t, x.Inst, x.Want)
 	}
 }
 
@@ -228,10 +171,10 @@ func all(size int) []int {
 // sized is a cover whose lines are so many bytes, at least 18: sets of all
 // elements, small ones, and behind them a last one that fills up.
 func sized(n int) inst.Inst {
-	i := sets(api.MaxN)
+	i := sample.Cover(api.MaxN)
 	n -= len("cover 4096\n")
 	whole := inst.Set{Elems: all(api.MaxN)}
-	full := len(model(sets(0, whole))) - len("cover 0\n")
+	full := len(model(sample.Cover(0, whole))) - len("cover 0\n")
 	for n >= full+len("set 0:\n") {
 		i.Sets, n = append(i.Sets, whole), n-full
 	}
@@ -275,7 +218,7 @@ func TestPrintOfLength(t *testing.T) {
 		}
 		refuses(t, i, api.ErrLong)
 	}
-	refuses(t, sets(api.MaxN, slices.Repeat([]inst.Set{{Cost: api.MaxMag, Elems: all(api.MaxN)}}, api.MaxN)...), api.ErrLong)
+	refuses(t, sample.Cover(api.MaxN, slices.Repeat([]inst.Set{{Cost: api.MaxMag, Elems: all(api.MaxN)}}, api.MaxN)...), api.ErrLong)
 }
 
 // TestCheckComesAheadOfLength: of what mayn't be, and is too long, the error of

@@ -1,51 +1,25 @@
 package show
 
 import (
-	"fmt"
 	"strings"
 	"testing"
 	"unsafe"
 
 	"secateur/api"
 	"secateur/inst"
+	"secateur/sample"
 )
 
 // Rules 2 to 4 and 7, and P1 and P2
-
-// behind are instances of each kind, and some that mayn't be, behind each of
-// whose lists something lies.
-func behind() []inst.Inst {
-	l := []inst.Item{{Value: 6, Weight: 3}, {Value: 5, Weight: 4}, {Value: 71, Weight: 72}, {Value: -73, Weight: 74}}
-	row := []int64{0, -1, 75, -76}
-	cost := [][]int64{row[:2], append([]int64{2, 0}, 77)[:2], {78, 79}}
-	elems := []int{0, 2, 81, 82}
-	some := []inst.Set{{Cost: 5, Elems: elems[:2]}, {Elems: elems[:0]}, {Cost: 83, Elems: []int{84}}}
-	return []inst.Inst{
-		items(9, l[:2]...), items(9, l[:0]...), rows(inst.Assignment, cost[:2]...), rows(inst.Tsp, cost[:2]...), sets(3, some[:2]...), sets(3, some[:0]...),
-		rows(inst.Tsp, cost[:0]...), rows(inst.Assignment, cost[:1]...), sets(2, some[:1]...), {Kind: inst.Kinds, Items: l[:1], Cost: cost[:1], Sets: some[:1]},
-	}
-}
-
-// whole tells all of an instance, with what lies behind its lists.
-func whole(i inst.Inst) string {
-	s := fmt.Sprint(i.Kind, i.Cap, i.Size, len(i.Items), len(i.Cost), len(i.Sets), i.Items[:cap(i.Items)])
-	for _, row := range i.Cost[:cap(i.Cost)] {
-		s += fmt.Sprint(" row ", len(row), row[:cap(row)])
-	}
-	for _, x := range i.Sets[:cap(i.Sets)] {
-		s += fmt.Sprint(" set ", x.Cost, len(x.Elems), x.Elems[:cap(x.Elems)])
-	}
-	return s
-}
 
 // TestInstanceReadsAsBefore: neither the instance nor its lists, nor what lies
 // behind them, is written; nor is any of this behind the lists told.
 func TestInstanceReadsAsBefore(t *testing.T) {
 	may := 0
-	for _, i := range append(behind(), sized(1000), sized(api.MaxText), sized(api.MaxText+1)) {
-		want := whole(i)
+	for _, i := range append(sample.Behind(), sized(1000), sized(api.MaxText), sized(api.MaxText+1)) {
+		want := sample.Whole(i)
 		s, e := Print(i)
-		if got := whole(i); got != want {
+		if got := sample.Whole(i); got != want {
 			t.Errorf("rule 4: Print made of %.300q this: %.300q", want, got)
 		}
 		if again, eAgain := Print(i); again != s || eAgain != e {
@@ -68,23 +42,23 @@ func TestEmptyLists(t *testing.T) {
 	prints(t, inst.Inst{Cap: 5, Items: []inst.Item{}, Cost: [][]int64{}, Sets: []inst.Set{}}, "knapsack", "capacity 5")
 	prints(t, inst.Inst{Kind: inst.Tsp, Items: []inst.Item{}, Cost: [][]int64{{0}}, Sets: []inst.Set{}}, "tsp 1", "row 0")
 	prints(t, inst.Inst{Kind: inst.Cover, Items: []inst.Item{}, Cost: [][]int64{}, Size: 3, Sets: []inst.Set{}}, "cover 3")
-	prints(t, sets(3, inst.Set{Elems: []int{}}, inst.Set{}), "cover 3", "set 0:", "set 0:")
-	refuses(t, rows(inst.Assignment, []int64{}), api.ErrForm)
+	prints(t, sample.Cover(3, inst.Set{Elems: []int{}}, inst.Set{}), "cover 3", "set 0:", "set 0:")
+	refuses(t, sample.Square(inst.Assignment, []int64{}), api.ErrForm)
 	refuses(t, inst.Inst{Kind: inst.Tsp, Cost: [][]int64{}}, api.ErrLimit)
 }
 
 // TestSharedLists: rows and sets may be one list, or parts of one.
 func TestSharedLists(t *testing.T) {
 	row, elems := []int64{0, 7, 0}, []int{1, 2, 4}
-	prints(t, rows(inst.Assignment, row[:2], row[:2]), "assignment 2", "row 0 7", "row 0 7")
-	prints(t, rows(inst.Tsp, row[:2], row[1:]), "tsp 2", "row 0 7", "row 7 0")
-	prints(t, sets(5, inst.Set{Cost: 1, Elems: elems}, inst.Set{Cost: 2, Elems: elems[1:]}, inst.Set{Cost: 3, Elems: elems[:2]}), "cover 5", "set 1: 1 2 4", "set 2: 2 4", "set 3: 1 2")
+	prints(t, sample.Square(inst.Assignment, row[:2], row[:2]), "assignment 2", "row 0 7", "row 0 7")
+	prints(t, sample.Square(inst.Tsp, row[:2], row[1:]), "tsp 2", "row 0 7", "row 7 0")
+	prints(t, sample.Cover(5, inst.Set{Cost: 1, Elems: elems}, inst.Set{Cost: 2, Elems: elems[1:]}, inst.Set{Cost: 3, Elems: elems[:2]}), "cover 5", "set 1: 1 2 4", "set 2: 2 4", "set 3: 1 2")
 }
 
 // TestTidyIsNewMemory: of a text that is tidy, too, and of none of those told
 // before.
 func TestTidyIsNewMemory(t *testing.T) {
-	for _, i := range behind() {
+	for _, i := range sample.Behind() {
 		s, e := Print(i)
 		if e != api.OK {
 			continue
@@ -112,8 +86,8 @@ func within(a, b string) bool {
 // TestCallsApart: what calls ahead of it told, or refused, the next one doesn't
 // know.
 func TestCallsApart(t *testing.T) {
-	i, s := sets(3, inst.Set{Cost: 5, Elems: []int{0, 2}}), "cover 3\nset 5: 0 2\n"
-	for _, other := range append(behind(), sized(api.MaxText), sized(api.MaxText+1), inst.Inst{Kind: -1}) {
+	i, s := sample.Cover(3, inst.Set{Cost: 5, Elems: []int{0, 2}}), "cover 3\nset 5: 0 2\n"
+	for _, other := range append(sample.Behind(), sized(api.MaxText), sized(api.MaxText+1), inst.Inst{Kind: -1}) {
 		text, e := Print(other)
 		tidy, eTidy := Tidy(text)
 		if got, e := Print(i); got != s || e != api.OK {
